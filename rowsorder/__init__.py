@@ -1,0 +1,1 @@
+"""Orders told by few rows."""

@@ -1,0 +1,64 @@
+import unittest
+
+from rowsorder import errors
+from rowsorder.errors import NoText, RankError
+from rowsorder.orders import ahead, apart, behind, next_pairs, turned
+from rowsorder.rows import first_left, is_row, nth_row, rank_of, rows_many, tell
+from rowsorder.texts import show_order
+from tests.samples import odd_things
+
+OF_A_TEXT = (
+    "NoOrder", "NoMany", "NoPairs", "Ring", "NoThing", "NoRow", "NoRows", "NoNumber", "NoChain", "NoTurns",
+    "NoPoints", "NoKind", "TooMany", "Bare", "NoLine",
+)
+
+
+class Classes(unittest.TestCase):
+    def test_rank_error_stands_straight_under_value_error(self):
+        self.assertEqual(RankError.__bases__, (ValueError,))
+
+    def test_each_class_stands_straight_under_rank_error(self):
+        for name in OF_A_TEXT + ("NoText",):
+            self.assertEqual(getattr(errors, name).__bases__, (RankError,), name)
+
+    def test_each_name_is_a_class_of_its_own(self):
+        self.assertEqual(len({getattr(errors, name) for name in OF_A_TEXT + ("NoText",)}), 16)
+
+    def test_made_of_a_text(self):
+        for name in OF_A_TEXT:
+            self.assertEqual(str(getattr(errors, name)("some words")), "some words")
+
+    def test_no_text_keeps_at(self):
+        for at in (0, 1, 29):
+            error = NoText(at)
+            self.assertEqual(error.at, at)
+            self.assertIsInstance(str(error), str)
+
+
+class NoOrderGoesFirst(unittest.TestCase):
+    def test_of_whatever_kind_whatever_else_is_wrong(self):
+        asked = [
+            lambda order, other: ahead(order, other),
+            lambda order, other: behind(order, other),
+            lambda order, other: apart(order, other),
+            lambda order, other: next_pairs(order),
+            lambda order, other: turned(order),
+            lambda order, other: show_order(order),
+            lambda order, other: is_row(other, order),
+            lambda order, other: rows_many(order),
+            lambda order, other: nth_row(order, other),
+            lambda order, other: rank_of(order, other),
+            lambda order, other: tell(other, order),
+            lambda order, other: first_left(order, other),
+        ]
+        no_orders = odd_things() + [(3, ((0, 1), (1, 2))), (2, ((0, 1), (1, 0))), (1, ((0, 0),)), 0, 1]
+        for number, ask in enumerate(asked):
+            for order in no_orders:
+                for other in (None, 0, [], (0,), [(0,)], "x", {}):
+                    with self.subTest(number=number, order=order, other=other):
+                        with self.assertRaises(errors.NoOrder):
+                            ask(order, other)
+
+
+if __name__ == "__main__":
+    unittest.main()
