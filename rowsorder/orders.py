@@ -71,6 +71,10 @@ def apart(order, thing):
     return [other for other in range(order[0]) if other not in met]
 
 
+def are_apart(order, a, b):
+    return a != b and (a, b) not in order[1] and (b, a) not in order[1]
+
+
 def next_pairs(order):
     need_order(order)
     return [(a, b) for a, b in order[1] if not is_parted(order, a, b)]

@@ -90,6 +90,18 @@ def free_things(masks, placed):
     return free
 
 
+def row_along(masks, late):
+    # A thing of late is placed only where no other thing is free.
+    row = []
+    placed = 0
+    while len(row) < len(masks):
+        free = free_things(masks, placed)
+        early = [thing for thing in free if thing not in late]
+        row.append((early + free)[0])
+        placed = with_thing(placed, row[-1])
+    return tuple(row)
+
+
 def ways_on(masks):
     # At each set of placed things, as bits: how many ways a row can go on from there.
     full = (1 << len(masks)) - 1

@@ -95,6 +95,30 @@ def big_orders():
     return made
 
 
+def knotted_orders():
+    """Orders of six to eight things that no two rows tell, without the crown of four and four."""
+    made = [crown(3), cube()]
+    for many, pairs in (
+        (6, ((0, 4), (0, 5), (1, 2), (1, 5), (3, 2), (3, 4))),
+        (6, ((0, 3), (2, 1), (2, 3), (4, 0), (4, 5), (5, 1))),
+        (6, ((0, 1), (0, 3), (1, 2), (4, 2), (5, 3), (5, 4))),
+        (7, ((0, 1), (0, 4), (2, 3), (2, 4), (2, 5), (3, 1), (6, 0), (6, 5))),
+        (7, ((0, 2), (0, 6), (3, 1), (3, 6), (5, 1), (5, 2))),
+        (7, ((1, 2), (1, 3), (4, 0), (4, 2), (5, 3), (6, 0), (6, 2), (6, 5))),
+        (7, ((0, 1), (0, 2), (3, 5), (3, 6), (4, 0), (5, 1), (6, 2))),
+        (7, ((0, 3), (2, 0), (2, 4), (4, 5), (6, 1), (6, 3), (6, 5))),
+        (7, ((0, 3), (4, 2), (5, 2), (5, 3), (6, 0), (6, 4))),
+        (8, ((3, 1), (3, 6), (3, 7), (5, 0), (5, 1), (6, 1), (7, 0))),
+        (8, ((0, 4), (0, 5), (1, 3), (1, 4), (1, 5), (6, 5), (7, 4))),
+        (8, ((0, 4), (1, 4), (1, 5), (2, 4), (2, 5), (2, 7), (3, 4), (6, 0), (6, 2))),
+        (8, ((1, 5), (1, 6), (1, 7), (2, 3), (2, 5), (3, 0), (3, 7), (4, 0), (6, 4))),
+        (8, ((0, 4), (0, 5), (0, 7), (1, 6), (3, 6), (4, 2), (4, 3), (5, 1), (5, 2), (7, 1), (7, 2))),
+        (8, ((0, 2), (0, 3), (0, 6), (1, 6), (2, 5), (2, 7), (3, 7), (4, 2), (4, 6), (6, 7))),
+    ):
+        made.append((many, plain_closed(pairs)))
+    return made
+
+
 def some_orders():
     return small_orders(1) + small_orders(2) + small_orders(3) + small_orders(4)[::5] + big_orders()
 
@@ -112,3 +136,36 @@ def is_apart(order, a, b):
 def plain_turns(order):
     things = range(order[0])
     return [(a, b) for a in things for b in things if is_apart(order, a, b)]
+
+
+def plain_tell(order, rows):
+    many, pairs = order
+    things = range(many)
+    told = [(a, b) for a in things for b in things if all(row.index(a) < row.index(b) for row in rows)]
+    return tuple(told) == pairs
+
+
+def turns_all(row, turns):
+    return all(row.index(b) < row.index(a) for a, b in turns)
+
+
+def is_plain_ring(order, ring):
+    """Whether a list of turns of the order is a ring."""
+    nexts = ring[1:] + ring[:1]
+    return bool(ring) and all(a == d or (a, d) in order[1] for (a, b), (c, d) in zip(ring, nexts))
+
+
+def lists_within(told):
+    """All lists that stand in what was told, each as often as it stands there."""
+    found = [told] if isinstance(told, list) else []
+    if isinstance(told, (list, tuple)):
+        for part in told:
+            found += lists_within(part)
+    return found
+
+
+def frozen(told):
+    """A copy that later changes of what was told can't reach; lists and tuples stay apart."""
+    if isinstance(told, (list, tuple)):
+        return (told.__class__.__name__, tuple(frozen(part) for part in told))
+    return told

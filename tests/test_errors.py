@@ -1,10 +1,16 @@
 import unittest
 
 from rowsorder import errors
+from rowsorder.chains import are_chains, chain_row, chain_rows, chains, most_apart
 from rowsorder.errors import NoText, RankError
+from rowsorder.fewest import case_paper, do_cross, fewest, fewest_rows, is_case_paper, most_cross
 from rowsorder.orders import ahead, apart, behind, next_pairs, turned
+from rowsorder.points import (
+    are_points, forced, is_knot, one_row, points_of, points_or_knot, rows_of, two_rows,
+)
 from rowsorder.rows import first_left, is_row, nth_row, rank_of, rows_many, tell
 from rowsorder.texts import show_order
+from rowsorder.turns import is_ring, sharp_turns, together, turns
 from tests.samples import odd_things
 
 OF_A_TEXT = (
@@ -50,11 +56,35 @@ class NoOrderGoesFirst(unittest.TestCase):
             lambda order, other: rank_of(order, other),
             lambda order, other: tell(other, order),
             lambda order, other: first_left(order, other),
+            lambda order, other: most_apart(order),
+            lambda order, other: chains(order),
+            lambda order, other: are_chains(other, order),
+            lambda order, other: chain_row(order, other),
+            lambda order, other: chain_rows(order),
+            lambda order, other: turns(order),
+            lambda order, other: sharp_turns(order),
+            lambda order, other: is_ring(other, order),
+            lambda order, other: together(order, other),
+            lambda order, other: are_points(other, order),
+            lambda order, other: points_of(order, other),
+            lambda order, other: rows_of(order, other),
+            lambda order, other: forced(order, other),
+            lambda order, other: is_knot(other, order),
+            lambda order, other: points_or_knot(order),
+            lambda order, other: two_rows(order),
+            lambda order, other: one_row(order),
+            lambda order, other: fewest(order),
+            lambda order, other: fewest_rows(order),
+            lambda order, other: is_case_paper(other, order, 2),
+            lambda order, other: is_case_paper(None, order, other),
+            lambda order, other: case_paper(order, other),
+            lambda order, other: do_cross(other, order),
+            lambda order, other: most_cross(order),
         ]
         no_orders = odd_things() + [(3, ((0, 1), (1, 2))), (2, ((0, 1), (1, 0))), (1, ((0, 0),)), 0, 1]
         for number, ask in enumerate(asked):
             for order in no_orders:
-                for other in (None, 0, [], (0,), [(0,)], "x", {}):
+                for other in (None, 0, 1, [], (0,), [(0,)], [[0]], [(0, 1)], "x", {}):
                     with self.subTest(number=number, order=order, other=other):
                         with self.assertRaises(errors.NoOrder):
                             ask(order, other)

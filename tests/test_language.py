@@ -11,8 +11,8 @@ PACKAGE = Path(__file__).resolve().parent.parent / "rowsorder"
 NODES = """
 Module ImportFrom alias FunctionDef arguments arg ClassDef Return Assign AugAssign For While If Raise Try
 ExceptHandler Expr Pass Break Continue BoolOp BinOp UnaryOp Lambda IfExp Dict Set ListComp comprehension Compare Call
-FormattedValue JoinedStr Constant Attribute Subscript Slice Name List Tuple Load Store And Or Add Sub Mult FloorDiv
-Mod Pow LShift RShift BitOr BitXor BitAnd Invert Not USub UAdd Eq NotEq Lt LtE Gt GtE Is IsNot In NotIn
+keyword FormattedValue JoinedStr Constant Attribute Subscript Slice Name List Tuple Load Store And Or Add Sub Mult
+FloorDiv Mod Pow LShift RShift BitOr BitXor BitAnd Invert Not USub UAdd Eq NotEq Lt LtE Gt GtE Is IsNot In NotIn
 """.split()
 
 OWN_NAMES = """
@@ -26,6 +26,11 @@ append clear copy count endswith extend find get index insert isalnum isalpha is
 join keys ljust lower lstrip partition pop remove replace reverse rfind rjust rpartition rsplit rstrip setdefault split
 splitlines startswith strip update upper values zfill bit_length
 """.split()
+
+KEYWORDS = {
+    "sorted": ("key", "reverse"), "min": ("key", "default"), "max": ("key", "default"), "sum": ("start",),
+    "enumerate": ("start",), "zip": ("strict",),
+}
 
 UNDERSCORED = ("__init__", "__eq__", "__repr__", "__str__", "__len__")
 
@@ -143,6 +148,24 @@ class Forms(unittest.TestCase):
                     self.assertIsInstance(node.right, ast.Constant, name)
                 if isinstance(node, ast.Compare) and isinstance(node.ops[0], (ast.Is, ast.IsNot)):
                     self.assertIn(getattr(node.comparators[0], "value", 0), (None, True, False), name)
+
+    def test_keywords(self):
+        for name, tree in trees():
+            for node in ast.walk(tree):
+                if isinstance(node, ast.Call):
+                    for keyword in node.keywords:
+                        self.assertIn(keyword.arg, KEYWORDS.get(getattr(node.func, "id", ""), ()), name)
+
+    def test_sets_stand_in_len_and_sorted_alone(self):
+        for name, tree in trees():
+            held = []
+            for node in ast.walk(tree):
+                if isinstance(node, ast.Call) and getattr(node.func, "id", "") in ("len", "sorted"):
+                    held += node.args
+            for node in ast.walk(tree):
+                self.assertNotIsInstance(node, ast.Set, name)
+                if isinstance(node, ast.Call) and getattr(node.func, "id", "") in ("set", "frozenset"):
+                    self.assertIn(node, held, name)
 
 
 class Names(unittest.TestCase):
