@@ -1,6 +1,8 @@
 import unittest
 
 from rowsorder import errors
+from rowsorder.bounds import bounds, first_list, lists_many
+from rowsorder.builds import behind_of, beside_of, replaced, rows_behind, rows_beside, rows_replaced, without
 from rowsorder.chains import are_chains, chain_row, chain_rows, chains, most_apart
 from rowsorder.errors import NoText, RankError
 from rowsorder.fewest import case_paper, do_cross, fewest, fewest_rows, is_case_paper, most_cross
@@ -80,6 +82,22 @@ class NoOrderGoesFirst(unittest.TestCase):
             lambda order, other: case_paper(order, other),
             lambda order, other: do_cross(other, order),
             lambda order, other: most_cross(order),
+            lambda order, other: behind_of(order, other),
+            lambda order, other: behind_of((8, ()), order),
+            lambda order, other: beside_of(order, other),
+            lambda order, other: beside_of((8, ()), order),
+            lambda order, other: replaced(order, other, (8, ())),
+            lambda order, other: replaced((2, ()), other, order),
+            lambda order, other: without(order, other),
+            lambda order, other: rows_behind(order, (8, ()), other, other),
+            lambda order, other: rows_behind((8, ()), order, other, other),
+            lambda order, other: rows_beside(order, (8, ()), other, other),
+            lambda order, other: rows_beside((8, ()), order, other, other),
+            lambda order, other: rows_replaced(order, other, (8, ()), other, other),
+            lambda order, other: rows_replaced((2, ()), other, order, other, other),
+            lambda order, other: bounds(order),
+            lambda order, other: lists_many(order, other),
+            lambda order, other: first_list(order),
         ]
         no_orders = odd_things() + [(3, ((0, 1), (1, 2))), (2, ((0, 1), (1, 0))), (1, ((0, 0),)), 0, 1]
         for number, ask in enumerate(asked):

@@ -168,6 +168,41 @@ class Forms(unittest.TestCase):
                     self.assertIn(node, held, name)
 
 
+class Classes(unittest.TestCase):
+    def classes(self):
+        return [(name, node) for name, tree in trees() for node in ast.walk(tree) if isinstance(node, ast.ClassDef)]
+
+    def test_stand_at_the_top_with_methods_alone(self):
+        tops = [node for name, tree in trees() for node in tree.body]
+        for name, node in self.classes():
+            self.assertTrue(any(node.lineno == top.lineno and node.name == getattr(top, "name", "") for top in tops))
+            self.assertLessEqual(len(node.bases), 1, name)
+            self.assertEqual(node.keywords, [], name)
+            for part in node.body:
+                self.assertIsInstance(part, (ast.FunctionDef, ast.Pass), (name, node.name))
+
+    def test_no_method_is_a_value(self):
+        methods = []
+        values = []
+        for name, node in self.classes():
+            own = [part.name for part in node.body if isinstance(part, ast.FunctionDef)]
+            self.assertEqual(len(own), len(set(own)), node.name)
+            methods += own
+            values += [part.attr for part in ast.walk(node)
+                       if isinstance(part, ast.Attribute) and isinstance(part.ctx, ast.Store)]
+        self.assertEqual(set(methods) & set(values), set())
+        for value in values:
+            for plain in ("", 0, [], {}, ()):
+                self.assertFalse(hasattr(plain, value), value)
+
+    def test_the_top_of_a_file(self):
+        for name, tree in trees():
+            for node in tree.body[1:]:
+                self.assertIsInstance(node, (ast.ImportFrom, ast.FunctionDef, ast.ClassDef, ast.Assign), name)
+                if isinstance(node, ast.Assign):
+                    self.assertNotIsInstance(node.value, (ast.List, ast.Dict, ast.Call), name)
+
+
 class Names(unittest.TestCase):
     def test_each_top_name_once(self):
         for name, tree in trees():
